@@ -64,8 +64,7 @@ func Code(err error) api.Errno {
 	if err == nil {
 		return api.OK
 	}
-	var code api.Errno
-	if ends(err, false) && holds(func() bool { return errors.As(err, &code) }) {
+	if code, ok := first[api.Errno](err); ok {
 		return code
 	}
 	return api.ErrOther
@@ -73,12 +72,12 @@ func Code(err error) api.Errno {
 
 // Is tells more than Code: a chain may hold several numbers.
 func Is(err error, code api.Errno) bool {
-	return ends(err, false) && holds(func() bool { return errors.Is(err, code) })
+	return search(err, func(e error) bool { return errors.Is(alone[api.Errno]{e}, code) })
 }
 
 // Where tells the place that was wrapped last: the outermost.
 func Where(err error) (string, string, bool) {
-	f, ok := firstFault(err)
+	f, ok := first[*Fault](err)
 	if !ok {
 		return "", "", false
 	}
@@ -91,7 +90,7 @@ func Where(err error) (string, string, bool) {
 func Depth(err error) int {
 	counted := map[*Fault]struct{}{}
 	for len(counted) < mostDeep {
-		f, ok := firstFault(err)
+		f, ok := first[*Fault](err)
 		if _, again := counted[f]; !ok || again {
 			break
 		}
@@ -99,13 +98,4 @@ func Depth(err error) int {
 		err = f.Unwrap()
 	}
 	return len(counted)
-}
-
-// firstFault needs no end behind the *Fault that it finds.
-func firstFault(err error) (*Fault, bool) {
-	var f *Fault
-	if ends(err, true) && holds(func() bool { return errors.As(err, &f) }) {
-		return f, true
-	}
-	return nil, false
 }

@@ -74,6 +74,16 @@ func (f fountain) As(target any) bool {
 	return false
 }
 
+// liar gives an answer, and says that it has none.
+type liar struct{}
+
+func (liar) Error() string { return "liar" }
+
+func (liar) As(target any) bool {
+	stands{code: api.ErrSum, at: &fault.Fault{Op: "o", Path: "p"}}.As(target)
+	return false
+}
+
 // around wraps err by another's means.
 func around(err error) error { return fmt.Errorf("around: %w", err) }
 
@@ -298,6 +308,21 @@ func TestDeepChains(t *testing.T) {
 	}
 }
 
+func TestLongLists(t *testing.T) {
+	list := make(bag, 1<<20+2)
+	other := errors.New("other")
+	for i := range list {
+		list[i] = &fault.Fault{Op: "o", Path: "p", Err: other}
+	}
+	if fault.Code(list) != api.ErrOther || fault.Is(list, api.ErrTail) {
+		t.Error("P1.2: a long list without a number")
+	}
+	list[len(list)-1] = api.ErrTail
+	if fault.Code(list) != api.ErrTail || !fault.Is(list, api.ErrTail) {
+		t.Error("P1.2: the number at the end of a long list")
+	}
+}
+
 // askAll makes each call on err: none may panic, or go on for ever.
 func askAll(t *testing.T, name string, err error) {
 	t.Helper()
@@ -354,6 +379,67 @@ func TestChainsWithoutAnEnd(t *testing.T) {
 	}
 	if op, path, ok := fault.Where(self); op != "x" || path != "y" || !ok {
 		t.Errorf("P1.2: the first Fault of a chain without an end: %q, %q, %v", op, path, ok)
+	}
+}
+
+// twice is err, joined with itself forty times over, by each of the means by
+// which an error holds several.
+func twice(err error) map[string]error {
+	join, row, deep := err, err, err
+	for range 40 {
+		join = errors.Join(join, join)
+		row = bag{row, nil, row}
+		deep = &fault.Fault{Op: "o", Path: "p", Err: errors.Join(deep, deep)}
+	}
+	return map[string]error{"joined": join, "a list": row, "Faults": deep}
+}
+
+func TestWhatIsJoinedWithItself(t *testing.T) {
+	for name, err := range twice(api.ErrNone) {
+		if fault.Code(err) != api.ErrNone || !fault.Is(err, api.ErrNone) || fault.Is(err, api.ErrBad) {
+			t.Errorf("P1.2: %s: the number at the end of what is joined with itself", name)
+		}
+	}
+	for name, err := range twice(errors.New("other")) {
+		askAll(t, name, err)
+		if fault.Code(errors.Join(err, api.ErrBusy)) != api.ErrBusy || !fault.Is(errors.Join(err, api.ErrBusy), api.ErrBusy) {
+			t.Errorf("P1.2: %s: the number behind what is joined with itself", name)
+		}
+	}
+	inner := fault.Wrap("a", "b", fault.Wrap("c", "d", api.ErrNone))
+	for _, name := range []string{"joined", "a list"} {
+		err := twice(inner)[name]
+		if op, path, ok := fault.Where(err); op != "a" || path != "b" || !ok || fault.Depth(err) != 2 {
+			t.Errorf("P1.2: %s: the place of what is joined with itself: %q, %q, %v", name, op, path, ok)
+		}
+	}
+	for name, err := range twice(api.OK) {
+		if fault.Wrap("a", "b", err) != nil {
+			t.Errorf("P1.1: %s: Wrap of one whose Code is OK", name)
+		}
+	}
+}
+
+func TestWhatComesFirstIsFound(t *testing.T) {
+	self := &fault.Fault{}
+	self.Err = errors.Join(self, self)
+	for name, rest := range map[string]error{"itself": self, "another's": circle{}, "panics": wild{}} {
+		err := errors.Join(fault.Wrap("a", "b", api.ErrNone), rest, api.ErrBad)
+		if fault.Code(err) != api.ErrNone || !fault.Is(err, api.ErrNone) {
+			t.Errorf("P1.2: %s: the number ahead of it", name)
+		}
+		if op, path, ok := fault.Where(err); op != "a" || path != "b" || !ok || fault.Depth(err) != 1 {
+			t.Errorf("P1.2: %s: the place ahead of it: %q, %q, %v", name, op, path, ok)
+		}
+	}
+}
+
+func TestAnErrorThatFillsInAndSaysNo(t *testing.T) {
+	if got := fault.Code(nested(1, liar{})); got != api.ErrOther {
+		t.Errorf("P1.2: Code where errors.As finds nothing: %d", got)
+	}
+	if op, path, ok := fault.Where(liar{}); op != "" || path != "" || ok || fault.Depth(liar{}) != 0 {
+		t.Errorf("P1.2: Where of none: %q, %q, %v", op, path, ok)
 	}
 }
 
